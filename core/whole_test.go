@@ -122,7 +122,7 @@ func grown(of []api.Node) []api.Node {
 	return l
 }
 
-// P4.2: of each of some ten thousand trees.
+// P4.2: of each of some fifty thousand trees.
 func TestGrown(t *testing.T) {
 	least := []api.Node{{}, {Kind: 1}, one("a"), one("bc")}
 	small := append(grown(least), least...)
