@@ -113,7 +113,7 @@ func each(do func(i int, n api.Node)) {
 	}
 }
 
-// P11.1: of some forty thousand trees, what is reached between all places of a word that has all short ones in it, against the chapter's words.
+// P11.1: of some fifty thousand trees, what is reached between all places of a word that has all short ones in it, against the chapter's words.
 func TestGrown(t *testing.T) {
 	const all = "aaabbbabaa"
 	short := words(3)
